@@ -28,10 +28,14 @@ def clocks(row):
     return told
 
 
-def ahead(row, one, other):
+# With the clocks handed in, so that one who asks of many pairs has them told once.
+def reaches(row, told, one, other):
     # The clocks alone would tell each deed ahead of itself.
     if one == other:
         return False
-    told = clocks(row)
     thread = row.deed(one)[0]
     return told[other][thread] >= told[one][thread]
+
+
+def ahead(row, one, other):
+    return reaches(row, clocks(row), one, other)

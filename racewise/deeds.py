@@ -3,6 +3,7 @@
 from racewise.errors import NoRow
 
 WORDS = ("read", "write", "take", "give", "fork", "wait")
+WORDS_OF_NAMES = ("read", "write")
 WORDS_OF_THREADS = ("fork", "wait")
 MOST_THREADS = 6
 MOST_DEEDS = 60
@@ -95,3 +96,25 @@ class Row:
 
     def deeds(self):
         return list(self.all_deeds)
+
+
+def touches(deed, name):
+    return deed[1] in WORDS_OF_NAMES and deed[2] == name
+
+
+def at_odds(one, other):
+    if one[0] == other[0]:
+        return False
+    if one[1] != "write" and other[1] != "write":
+        return False
+    return touches(one, other[2]) and touches(other, one[2])
+
+
+# What races and what is warned of are both drawn from these: the one by order, the other by locks.
+def pairs_at_odds(row):
+    told = []
+    for one in range(row.size):
+        for other in range(one + 1, row.size):
+            if at_odds(row.deed(one), row.deed(other)):
+                told.append((one, other))
+    return told

@@ -123,3 +123,102 @@ def some_rows(seed, number, sizes=(0, 60)):
                 deeds.append(able[0])
         rows.append((many, deeds))
     return rows
+
+
+def slow_is_weaving(deeds, order):
+    table = slow_ahead(deeds)
+    if len(order) != len(deeds) or any(order.count(place) != 1 for place in range(len(deeds))):
+        return False
+    stands = [order.index(place) for place in range(len(deeds))]
+    return all(
+        stands[one] < stands[other]
+        for one in range(len(deeds)) for other in range(len(deeds)) if table[one][other]
+    )
+
+
+def next_places(table, order):
+    """The places that may stand next behind the beginning of a weaving."""
+    places = [place for place in range(len(table)) if place not in order]
+    return [place for place in places if not any(table[one][place] for one in places)]
+
+
+def all_weavings(deeds):
+    table = slow_ahead(deeds)
+    orders = [[]]
+    for step in deeds:
+        orders = [order + [place] for order in orders for place in next_places(table, order)]
+    return orders
+
+
+def some_weavings(source, deeds, number):
+    table = slow_ahead(deeds)
+    orders = []
+    for turn in range(number):
+        order = []
+        for step in deeds:
+            order.append(source.choice(next_places(table, order)))
+        orders.append(order)
+    return orders
+
+
+def slow_odds(deeds):
+    """The pairs of unlike threads that read or write one name, at least one of them a write, sorted."""
+    told = []
+    for other in range(len(deeds)):
+        for one in range(other):
+            words = sorted([deeds[one][1], deeds[other][1]])
+            if words not in (["read", "write"], ["write", "write"]):
+                continue
+            if deeds[one][0] != deeds[other][0] and deeds[one][2] == deeds[other][2]:
+                told.append((one, other))
+    return sorted(told)
+
+
+def slow_races(deeds):
+    table = slow_ahead(deeds)
+    return [(one, other) for one, other in slow_odds(deeds) if not table[one][other] and not table[other][one]]
+
+
+def slow_beside(deeds, one, other):
+    table = slow_ahead(deeds)
+    needed = [place for place in range(len(deeds)) if table[place][one] or table[place][other]]
+    behind = [place for place in range(len(deeds)) if place not in needed + [one, other]]
+    return needed + [one, other] + behind
+
+
+def slow_seen(deeds):
+    told = []
+    for place, (thread, word, thing) in enumerate(deeds):
+        writes = [one for one in range(place) if deeds[one][1:] == ("write", thing)]
+        told.append(writes[-1] if word == "read" and writes else None)
+    return told
+
+
+def slow_first_race(deeds):
+    found = slow_races(deeds)
+    for other in range(len(deeds)):
+        for one in range(len(deeds)):
+            if (one, other) in found:
+                return (one, other)
+    return None
+
+
+def slow_held(deeds):
+    locks = sorted({thing for thread, word, thing in deeds if word == "take"})
+    return [
+        [lock for lock in locks if holder(deeds[:place], lock) == deeds[place][0]]
+        for place in range(len(deeds))
+    ]
+
+
+def slow_guards(deeds, name):
+    told = slow_held(deeds)
+    places = [place for place, deed in enumerate(deeds) if deed[1:] in (("read", name), ("write", name))]
+    if not places:
+        return None
+    return [lock for lock in told[places[0]] if all(lock in told[place] for place in places)]
+
+
+def slow_warned(deeds):
+    told = slow_held(deeds)
+    return [(one, other) for one, other in slow_odds(deeds) if not set(told[one]) & set(told[other])]
