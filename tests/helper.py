@@ -1,5 +1,6 @@
 """The points of the document said once more, slowly and word by word, to hold the program against."""
 
+import itertools
 import random
 
 WORDS = ["read", "write", "take", "give", "fork", "wait"]
@@ -222,3 +223,258 @@ def slow_guards(deeds, name):
 def slow_warned(deeds):
     told = slow_held(deeds)
     return [(one, other) for one, other in slow_odds(deeds) if not set(told[one]) & set(told[other])]
+
+
+def some_lock_rows(seed, number, sizes, most_threads=6):
+    """Lists without fault that mostly take locks while holding others."""
+    source = random.Random(seed)
+    rows = []
+    for turn in range(number):
+        many = source.randint(2, most_threads)
+        locks = [0, 1, 2, 3, BIG - 1, BIG][:source.randint(2, 6)]
+        most = source.randint(1, 3)
+        deeds = [(0, "fork", thread) for thread in range(1, many)]
+        for step in range(source.randint(*sizes) - len(deeds)):
+            thread = source.randrange(many)
+            mine = [lock for lock in locks if holder(deeds, lock) == thread]
+            free = [lock for lock in locks if holder(deeds, lock) is None]
+            if mine and (not free or len(mine) > most or source.randint(0, 2) == 0):
+                deeds.append((thread, "give", source.choice(mine)))
+            elif free:
+                deeds.append((thread, "take", source.choice(free)))
+        rows.append((many, deeds))
+    return rows
+
+
+def slow_is_ring(deeds, told, places):
+    """Whether these places are a ring of locks; told are the locks held, by place."""
+    threads = [deeds[place][0] for place in places]
+    if len(places) < 2 or len(set(threads)) < len(threads):
+        return False
+    if any(deeds[place][1] != "take" for place in places):
+        return False
+    if any(set(told[one]) & set(told[other]) for one, other in itertools.combinations(places, 2)):
+        return False
+    return all(deeds[one][2] in told[other] for one, other in zip(places, places[1:] + places[:1]))
+
+
+def slow_has_ring(many, deeds):
+    told = slow_held(deeds)
+    # At each take of a ring the lock of another one is held.
+    takes = [
+        [place for place, deed in enumerate(deeds) if deed[:2] == (thread, "take") and told[place]]
+        for thread in range(many)
+    ]
+    for number in range(2, many + 1):
+        for threads in itertools.permutations(range(many), number):
+            # A ring may be told from any of its takes on, so also from that of the least thread.
+            if threads[0] == min(threads):
+                for places in itertools.product(*[takes[thread] for thread in threads]):
+                    if slow_is_ring(deeds, told, list(places)):
+                        return True
+    return False
+
+
+class FreeRun:
+    """Where a free run of a row has come to: by thread how many of its deeds are done."""
+
+    def __init__(self, many, deeds, counts):
+        self.counts = counts
+        self.own = [[deed for deed in deeds if deed[0] == thread] for thread in range(many)]
+        self.forked = [0]
+        self.holders = {}
+        for thread in range(many):
+            done = self.own[thread][:counts[thread]]
+            self.forked += [deed[2] for deed in done if deed[1] == "fork"]
+            # What each one has taken and not given it holds, whatever others have had before or since.
+            for lock in {deed[2] for deed in done if deed[1] == "take"}:
+                if holder(done, lock) is not None:
+                    self.holders[lock] = thread
+
+    def has_done_all(self, thread):
+        return self.counts[thread] == len(self.own[thread])
+
+    def next_deed(self, thread):
+        return None if self.has_done_all(thread) else self.own[thread][self.counts[thread]]
+
+    def may(self, thread):
+        deed = self.next_deed(thread)
+        if deed is None or thread not in self.forked:
+            return False
+        if deed[1] == "take":
+            return deed[2] not in self.holders
+        if deed[1] == "wait":
+            return deed[2] in self.forked and self.has_done_all(deed[2])
+        return True
+
+    def goes_round(self):
+        nexts = {}
+        for thread in range(len(self.own)):
+            deed = self.next_deed(thread)
+            if deed is not None and deed[1] == "take" and self.holders.get(deed[2], thread) != thread:
+                nexts[thread] = self.holders[deed[2]]
+        for first in nexts:
+            thread = nexts[first]
+            for step in range(len(self.own)):
+                if thread == first:
+                    return True
+                thread = nexts.get(thread)
+        return False
+
+
+def all_free_runs(many, deeds):
+    all_counts = [(0,) * many]
+    known = set(all_counts)
+    runs = []
+    for counts in all_counts:
+        free_run = FreeRun(many, deeds, counts)
+        runs.append(free_run)
+        for thread in range(many):
+            behind = counts[:thread] + (counts[thread] + 1,) + counts[thread + 1:]
+            if free_run.may(thread) and behind not in known:
+                known.add(behind)
+                all_counts.append(behind)
+    return runs
+
+
+class SlowRun:
+    """A program's run in the kept order, told with lists that change."""
+
+    def __init__(self, values, codes):
+        self.codes = codes
+        self.lines = [0 for code in codes]
+        self.owns = [[0, 0, 0] for code in codes]
+        self.shared = list(values)
+        self.holders = [None, None, None]
+        self.awake = [True] + [False for code in codes[1:]]
+
+    def state(self):
+        owns = tuple(tuple(own) for own in self.owns)
+        return (tuple(self.lines), owns, tuple(self.shared), tuple(self.holders), tuple(self.awake))
+
+    def ended(self, thread):
+        return not self.lines[thread] < len(self.codes[thread])
+
+    def may(self, thread):
+        if not self.awake[thread] or self.ended(thread):
+            return False
+        line = self.codes[thread][self.lines[thread]]
+        return {
+            "take": lambda lock: self.holders[lock] is None,
+            "give": lambda lock: self.holders[lock] is not None and self.holders[lock] == thread,
+            "fork": lambda other: self.awake[other] is False,
+            "wait": lambda other: self.awake[other] is True and self.ended(other),
+        }.get(line[0], lambda part: True)(line[1])
+
+    def value(self, thread, value):
+        return {"own": lambda number: self.owns[thread][number], "number": lambda number: number}[value[0]](value[1])
+
+    def move(self, thread):
+        """Does the thread's next line and tells its deed, or None."""
+        line = self.codes[thread][self.lines[thread]]
+        self.lines[thread] += 1
+        return getattr(self, "do_" + line[0])(thread, *line[1:])
+
+    def do_read(self, thread, own, name):
+        self.owns[thread][own] = self.shared[name]
+        return (thread, "read", name)
+
+    def do_write(self, thread, name, value):
+        self.shared[name] = self.value(thread, value)
+        return (thread, "write", name)
+
+    def do_set(self, thread, own, one, sign, other):
+        factor = {"+": 1, "-": -1}[sign]
+        self.owns[thread][own] = self.value(thread, one) + factor * self.value(thread, other)
+
+    def do_skip(self, thread, one, test, other, count):
+        gap = self.value(thread, other) - self.value(thread, one)
+        if {"==": gap == 0, "<": gap > 0}[test]:
+            self.lines[thread] += count
+
+    def do_take(self, thread, lock):
+        self.holders[lock] = thread
+        return (thread, "take", lock)
+
+    def do_give(self, thread, lock):
+        self.holders[lock] = None
+        return (thread, "give", lock)
+
+    def do_fork(self, thread, other):
+        self.awake[other] = True
+        return (thread, "fork", other)
+
+    def do_wait(self, thread, other):
+        return (thread, "wait", other)
+
+
+def some_value(source):
+    if source.randint(0, 1):
+        return ("own", source.randint(0, 2))
+    return ("number", source.choice([0, 0, 1, 1, 2, -1, -3, BIG, -BIG]))
+
+
+def some_line(source, many, names, words):
+    word = source.choice(words)
+    if word == "read":
+        return (word, source.randint(0, 2), source.randrange(names))
+    if word == "write":
+        return (word, source.randrange(names), some_value(source))
+    if word == "set":
+        return (word, source.randint(0, 2), some_value(source), source.choice("+-"), some_value(source))
+    if word == "skip":
+        count = source.choice([0, 1, 1, 2, 3, 8])
+        return (word, some_value(source), source.choice(["==", "<"]), some_value(source), count)
+    if word in ("take", "give"):
+        return (word, source.randint(0, 2))
+    return (word, source.randrange(many))
+
+
+def lively_code(source, many, names, thread):
+    """Code that is seldom shut out for good: forks and waits as they may be, and gives of what was taken."""
+    code = [("fork", other) for other in range(1, many)] if thread == 0 else []
+    taken = []
+    for step in range(source.randint(0, 8 - len(code))):
+        words = ["read", "write", "set", "skip", "take"] + ["give"] * 2 * len(taken)
+        line = some_line(source, many, names, words)
+        if line[0] == "take" and line[1] not in taken:
+            taken.append(line[1])
+        elif line[0] == "give":
+            line = ("give", taken.pop())
+        code.append(line)
+    if thread == 0 and many > 1 and len(code) < 8 and source.randint(0, 1):
+        code.append(("wait", source.randrange(1, many)))
+    return code
+
+
+def some_programs(seed, number):
+    """First values and codes, the same ones for each seed; a third of them with lines drawn freely."""
+    source = random.Random(seed)
+    programs = []
+    for turn in range(number):
+        many = source.randint(1, 3)
+        names = source.randint(1, 4)
+        values = [source.choice([0, 1, -1, 5, BIG, -BIG]) for name in range(names)]
+        if turn % 3:
+            codes = [lively_code(source, many, names, thread) for thread in range(many)]
+        else:
+            words = ["read", "write", "set", "skip", "take", "give", "fork", "wait"]
+            codes = [
+                [some_line(source, many, names, words) for step in range(source.randint(0, 8))]
+                for thread in range(many)
+            ]
+        programs.append((values, codes))
+    return programs
+
+
+def some_schedule(source, values, codes):
+    """Threads that move one after another, drawn one by one, until none may or by chance."""
+    slow = SlowRun(values, codes)
+    schedule = []
+    while source.randint(0, 30):
+        able = [thread for thread in range(len(codes)) if slow.may(thread)]
+        if not able:
+            break
+        schedule.append(source.choice(able))
+        slow.move(schedule[-1])
+    return schedule
