@@ -430,11 +430,11 @@ def some_line(source, many, names, words):
     return (word, source.randrange(many))
 
 
-def lively_code(source, many, names, thread):
+def lively_code(source, many, names, thread, most):
     """Code that is seldom shut out for good: forks and waits as they may be, and gives of what was taken."""
     code = [("fork", other) for other in range(1, many)] if thread == 0 else []
     taken = []
-    for step in range(source.randint(0, 8 - len(code))):
+    for step in range(source.randint(0, most - len(code))):
         words = ["read", "write", "set", "skip", "take"] + ["give"] * 2 * len(taken)
         line = some_line(source, many, names, words)
         if line[0] == "take" and line[1] not in taken:
@@ -442,12 +442,12 @@ def lively_code(source, many, names, thread):
         elif line[0] == "give":
             line = ("give", taken.pop())
         code.append(line)
-    if thread == 0 and many > 1 and len(code) < 8 and source.randint(0, 1):
+    if thread == 0 and many > 1 and len(code) < most and source.randint(0, 1):
         code.append(("wait", source.randrange(1, many)))
     return code
 
 
-def some_programs(seed, number):
+def some_programs(seed, number, most=8):
     """First values and codes, the same ones for each seed; a third of them with lines drawn freely."""
     source = random.Random(seed)
     programs = []
@@ -456,11 +456,11 @@ def some_programs(seed, number):
         names = source.randint(1, 4)
         values = [source.choice([0, 1, -1, 5, BIG, -BIG]) for name in range(names)]
         if turn % 3:
-            codes = [lively_code(source, many, names, thread) for thread in range(many)]
+            codes = [lively_code(source, many, names, thread, most) for thread in range(many)]
         else:
             words = ["read", "write", "set", "skip", "take", "give", "fork", "wait"]
             codes = [
-                [some_line(source, many, names, words) for step in range(source.randint(0, 8))]
+                [some_line(source, many, names, words) for step in range(source.randint(0, most))]
                 for thread in range(many)
             ]
         programs.append((values, codes))
@@ -478,3 +478,215 @@ def some_schedule(source, values, codes):
         schedule.append(source.choice(able))
         slow.move(schedule[-1])
     return schedule
+
+
+def section(source, names):
+    """Lines that read and write names only while their lock is held, each name having one lock for all threads."""
+    lock = source.randint(0, 2)
+    guarded = [name for name in range(names) if name % 3 == lock]
+    words = ["read", "write", "set"] if guarded else ["set"]
+    lines = []
+    for step in range(source.randint(1, 3)):
+        line = some_line(source, 1, names, words)
+        if line[0] == "read":
+            line = ("read", line[1], source.choice(guarded))
+        if line[0] == "write":
+            line = ("write", source.choice(guarded), line[2])
+        lines.append(line)
+    if source.randint(0, 3) == 0:
+        lines.insert(0, ("skip", some_value(source), source.choice(["==", "<"]), some_value(source), len(lines)))
+    return [("take", lock)] + lines + [("give", lock)]
+
+
+def guarded_code(source, many, names, thread, most):
+    """Lines by thread 0 alone, forks, sections, and waits with lines of thread 0 alone behind them."""
+    alone = ["read", "write", "set"]
+    code = []
+    if thread == 0:
+        code += [some_line(source, many, names, alone) for step in range(source.randint(0, 1))]
+        code += [("fork", other) for other in range(1, many)]
+    parts = [section(source, names) for step in range(2)]
+    if thread == 0:
+        waits = [("wait", other) for other in range(1, many)]
+        parts.append(waits + [some_line(source, many, names, alone) for step in range(2)])
+    for part in parts:
+        if len(code) + len(part) <= most:
+            code += part
+    return code
+
+
+def some_guarded_programs(seed, number, most=6):
+    """First values and codes, the same ones for each seed, most of them free of clashes."""
+    source = random.Random(seed)
+    programs = []
+    for turn in range(number):
+        many = source.randint(2, 3)
+        names = source.randint(1, 4)
+        values = [source.choice([0, 1, -1]) for name in range(names)]
+        programs.append((values, [guarded_code(source, many, names, thread, most) for thread in range(many)]))
+    return programs
+
+
+def some_busy_programs(seed, number, most=4):
+    """First values and codes, the same ones for each seed, in which threads read and write few names at once."""
+    source = random.Random(seed)
+    programs = []
+    for turn in range(number):
+        # Lines by which threads are shut out stand in every other program alone.
+        words = ["read", "write"] * 4 + ["set", "skip"] + ["take", "give", "wait"] * (turn % 2)
+        many = source.choice([2, 2, 3])
+        names = source.randint(1, 2)
+        codes = [[("fork", other) for other in range(1, many)]] + [[] for thread in range(1, many)]
+        for code in codes:
+            room = most - len(code)
+            code += [some_line(source, many, names, words) for step in range(source.randint(room // 2, room))]
+        programs.append(([source.choice([0, 0, 1]) for name in range(names)], codes))
+    return programs
+
+
+def small_programs(lines, size):
+    """All programs of two threads, thread 0 forking the other first, each with as many of these lines behind it."""
+    for one in itertools.product(lines, repeat=size):
+        for other in itertools.product(lines, repeat=size):
+            yield ([0, 0], [[("fork", 1)] + list(one), list(other)])
+
+
+def slow_walk(values, codes, schedule):
+    slow = SlowRun(values, codes)
+    for thread in schedule:
+        slow.move(thread)
+    return slow
+
+
+def slow_states(values, codes, most=400):
+    """By state a schedule that leads there, deepest first; no further once there are more than so many."""
+    known = {}
+    schedules = [[]]
+    while schedules and len(known) <= most:
+        schedule = schedules.pop()
+        slow = slow_walk(values, codes, schedule)
+        if slow.state() not in known:
+            known[slow.state()] = schedule
+            schedules += [schedule + [thread] for thread in range(len(codes)) if slow.may(thread)]
+    return known
+
+
+def slow_reason(slow, thread):
+    if not slow.awake[thread] or slow.ended(thread) or slow.may(thread):
+        return None
+    word, thing = slow.codes[thread][slow.lines[thread]]
+    return {
+        "take": ("lock", thing, slow.holders[thing]),
+        "wait": ("wait", thing),
+        "give": ("never",),
+        "fork": ("never",),
+    }[word]
+
+
+def slow_touch(line):
+    """The shared name that a line reads or writes, and whether it writes; None for other lines."""
+    return {"read": lambda: (line[2], False), "write": lambda: (line[1], True)}.get(line[0], lambda: None)()
+
+
+def slow_clash_in(slow):
+    for one, other in itertools.combinations(range(len(slow.codes)), 2):
+        if all(slow.awake[thread] and not slow.ended(thread) for thread in (one, other)):
+            touches = [slow_touch(slow.codes[thread][slow.lines[thread]]) for thread in (one, other)]
+            if None not in touches and touches[0][0] == touches[1][0] and (touches[0][1] or touches[1][1]):
+                return (one, other)
+    return None
+
+
+def all_runs(values, codes):
+    """The deeds of all schedules that go on until no thread may move."""
+    schedules = [[]]
+    while schedules:
+        schedule = schedules.pop()
+        slow = SlowRun(values, codes)
+        deeds = [slow.move(thread) for thread in schedule]
+        able = [thread for thread in range(len(codes)) if slow.may(thread)]
+        schedules += [schedule + [thread] for thread in able]
+        if not able:
+            yield [deed for deed in deeds if deed is not None]
+
+
+SET = ("set", 0, ("own", 0), "+", ("number", 0))
+SAME = ("write", 0, ("number", 0))
+
+
+def of_sets(first, second, third):
+    """Each state is told by its lines alone: 1 + (second + 1) + (first + 1) * (second + 1) * (third + 1) of them."""
+    return [[("fork", 1), ("fork", 2)] + [SET] * first, [SET] * second, [SET] * third]
+
+
+# Codes of programs whose one shared name is at first 0, with 1 + 7 + 7 * 7 * 8 states, and 1 + 8 + 7 * 8 * 7 of them.
+OF_400 = of_sets(6, 6, 7)
+OF_401 = of_sets(6, 7, 6)
+# All writes are of what is there, so a loose state is told by its lines and by how many writes are in each book.
+# (1 + 1) + 2 + 17 * 2 * 44 loose states, thread 0 having 17 ways to stand behind its forks, the others 2 and 44.
+OF_1500_LOOSE = [[SET, ("fork", 1), ("fork", 2), SAME, SAME, SET, SAME, SET], [SET], [SAME] * 7 + [SET]]
+# 1 + 4 + 22 * 4 * 17 of them.
+OF_1501_LOOSE = [
+    [("fork", 1), ("fork", 2), SAME, SAME, SAME, SET, SET, SET], [SET, SAME], [SAME, SAME, SET, SAME, SET],
+]
+
+
+class SlowLoose(SlowRun):
+    """A program's run in the loose order, told with lists that change."""
+
+    def __init__(self, values, codes):
+        super().__init__(values, codes)
+        self.books = [[] for code in codes]
+
+    def loose(self):
+        return (self.state(), tuple(tuple(book) for book in self.books))
+
+    def may(self, thread):
+        if not super().may(thread):
+            return False
+        word, thing = self.codes[thread][self.lines[thread]][:2]
+        if word in ("read", "write", "set", "skip"):
+            return True
+        return not self.books[thread] and not (word == "wait" and self.books[thing])
+
+    def moves(self):
+        told = [("do", thread) for thread in range(len(self.codes)) if self.may(thread)]
+        for thread, book in enumerate(self.books):
+            for name in range(len(self.shared)):
+                if name in dict(book):
+                    told.append(("out", thread, name))
+        return told
+
+    def go(self, move):
+        if move[0] == "do":
+            self.move(move[1])
+        else:
+            self.out(move[1], move[2])
+
+    def out(self, thread, name):
+        for place, (other, value) in enumerate(self.books[thread]):
+            if other == name:
+                self.shared[name] = value
+                del self.books[thread][place]
+                return
+
+    def do_read(self, thread, own, name):
+        self.owns[thread][own] = dict(self.books[thread]).get(name, self.shared[name])
+
+    def do_write(self, thread, name, value):
+        self.books[thread].append((name, self.value(thread, value)))
+
+
+def slow_loose_states(values, codes, most=1500):
+    """By loose state the moves that may be in it, deepest first; no further once there are more than so many."""
+    known = {}
+    all_moves = [[]]
+    while all_moves and len(known) <= most:
+        moves = all_moves.pop()
+        slow = SlowLoose(values, codes)
+        for move in moves:
+            slow.go(move)
+        if slow.loose() not in known:
+            known[slow.loose()] = slow.moves()
+            all_moves += [moves + [move] for move in slow.moves()]
+    return known

@@ -239,7 +239,8 @@ class Seen(unittest.TestCase):
         self.assertEqual(seen(Row(1, deeds)), [None, None, 0])
 
     def test_none_for_all_other_deeds(self):
-        deeds = [(0, "write", 1), (0, "take", 1), (0, "give", 1), FORK1, (0, "wait", 1), (0, "write", 1), (0, "read", 1)]
+        deeds = [(0, "write", 1), (0, "take", 1), (0, "give", 1), FORK1]
+        deeds += [(0, "wait", 1), (0, "write", 1), (0, "read", 1)]
         self.assertEqual(seen(Row(2, deeds)), [None] * 6 + [5])
 
     def test_locks_and_threads_numbered_as_names(self):

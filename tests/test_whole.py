@@ -1,12 +1,17 @@
-"""The promises of the whole over rows, held together."""
+"""The promises of the whole over rows and over programs, held together."""
 
 import random
 import unittest
 
 import helper
+from racewise import errors
 from racewise.clocks import ahead, clocks
 from racewise.deeds import Row
 from racewise.holds import guards, held, warned
+from racewise.kept import begin, moved, movers, run
+from racewise.looks import clash, clash_in, ends, is_stuck, reasons, states
+from racewise.loose import loose_begin, loose_ends, loose_moved, loose_moves
+from racewise.programs import Program
 from racewise.races import beside, first_race, races, seen
 from racewise.weavings import is_weaving, woven
 
@@ -77,7 +82,8 @@ class Whole(unittest.TestCase):
             for pair in set(helper.slow_odds(deeds)) & neighbours(orders):
                 self.assertIn(pair, pairs, (many, deeds))
             for order in orders:
-                told = [tuple(sorted((order[one], order[other]))) for one, other in races(woven(Row(many, deeds), order))]
+                told = races(woven(Row(many, deeds), order))
+                told = [tuple(sorted((order[one], order[other]))) for one, other in told]
                 self.assertEqual(sorted(told), pairs, (many, deeds, order))
 
     def test_a_row_never_changes(self):
@@ -102,6 +108,109 @@ class Whole(unittest.TestCase):
                 self.assertEqual([repr(again(row)) for again in asks], wanted)
             self.assertEqual(row.deeds(), deeds)
             self.assertIs(ahead(row, 0, 0), False)
+
+
+class WholePrograms(unittest.TestCase):
+    def setUp(self):
+        self.number_of = {"free": 0, "clash": 0, "alike": 0, "unlike": 0, "several": 0}
+
+    def holds(self, values, codes):
+        """What is told of clashes, ends and loose ends goes together; None where the program is too great."""
+        program = Program(values, codes)
+        try:
+            found = clash(program)
+            kept_ends = ends(program)
+            all_loose_ends = loose_ends(program)
+        except errors.TooGreat:
+            return None
+        self.assertEqual(len(set(kept_ends)), len(kept_ends))
+        self.assertEqual(len(set(all_loose_ends)), len(all_loose_ends))
+        alike = set(kept_ends) == set(all_loose_ends)
+        self.assertLessEqual(set(kept_ends), set(all_loose_ends), (values, codes))
+        self.number_of["free" if found is None else "clash"] += 1
+        self.number_of["alike" if alike else "unlike"] += 1
+        self.number_of["several"] += found is None and len(kept_ends) > 1
+        if found is None:
+            self.assertTrue(alike, (values, codes))
+        else:
+            self.is_walked(program, found)
+        return found
+
+    def is_walked(self, program, found):
+        schedule, one, other = found
+        for pair in ([one, other], [other, one]):
+            deeds = run(program, schedule + pair)[1]
+            row = Row(program.many, deeds)
+            self.assertEqual([deed[0] for deed in deeds[-2:]], pair)
+            self.assertIn((row.size - 2, row.size - 1), races(row))
+
+    def test_programs_with_guards(self):
+        for most in (5, 6, 7, 8):
+            for values, codes in helper.some_guarded_programs(20 + most, 70, most):
+                self.holds(values, codes)
+        self.assertGreater(self.number_of["free"], 200)
+        self.assertGreater(self.number_of["several"], 30)
+
+    def test_programs_with_one_line_that_spoils_the_guards(self):
+        source = random.Random(21)
+        for values, codes in helper.some_guarded_programs(21, 250, 6):
+            thread = source.randrange(len(codes))
+            codes = [list(code) for code in codes]
+            places = [place for place, line in enumerate(codes[thread]) if line[0] in ("take", "give", "wait")]
+            if places:
+                place = source.choice(places)
+                words = ["read", "write", "give", "take"]
+                codes[thread][place] = helper.some_line(source, len(codes), len(values), words)
+            self.holds(values, codes)
+        self.assertGreater(self.number_of["free"], 50)
+        self.assertGreater(self.number_of["clash"], 25)
+
+    def test_drawn_programs(self):
+        for values, codes in helper.some_programs(22, 250) + helper.some_busy_programs(23, 200, 5):
+            self.holds(values, codes)
+        self.assertGreater(self.number_of["free"], 150)
+        self.assertGreater(self.number_of["clash"], 100)
+        self.assertGreater(self.number_of["unlike"], 0)
+
+    def test_all_runs_of_drawn_programs(self):
+        for values, codes in helper.some_busy_programs(24, 250, 3) + helper.some_guarded_programs(25, 20, 4):
+            found = self.holds(values, codes)
+            raced = any(races(Row(len(codes), deeds)) for deeds in helper.all_runs(values, codes))
+            self.assertIs(found is not None, raced, (values, codes))
+        self.assertGreater(self.number_of["free"], 50)
+        self.assertGreater(self.number_of["clash"], 50)
+
+    def test_all_small_programs(self):
+        lines = [("read", 0, 0), ("write", 0, ("number", 1)), ("write", 1, ("number", 2)), ("read", 1, 1)]
+        for values, codes in helper.small_programs(lines, 2):
+            self.holds(values, codes)
+        for values, codes in helper.small_programs(lines[:2] + [("take", 0), ("give", 0), ("wait", 0), ("wait", 1)], 2):
+            self.holds(values, codes)
+        for number in self.number_of:
+            self.assertGreater(self.number_of[number], 1, number)
+
+    def test_a_program_never_changes(self):
+        for values, codes in helper.some_busy_programs(26, 25, 4):
+            program = Program(values, codes)
+            asks = [
+                states, ends, clash, loose_ends, begin, loose_begin, lambda program: movers(program, begin(program)),
+                lambda program: reasons(program, begin(program)), lambda program: run(program, [0]),
+                lambda program: loose_moves(program, loose_begin(program)),
+                lambda program: program.first_values(), lambda program: program.code(0),
+                lambda program: clash_in(program, moved(program, begin(program), 0)),
+                lambda program: is_stuck(program, begin(program)),
+                lambda program: loose_moved(program, loose_begin(program), ("do", 0)),
+            ]
+            try:
+                wanted = [repr(ask(program)) for ask in asks]
+            except errors.TooGreat:
+                continue
+            for ask in asks:
+                told = ask(program)
+                for part in [told] + list(told if isinstance(told, tuple) else []):
+                    if isinstance(part, list):
+                        part.clear()
+                self.assertEqual([repr(again(program)) for again in asks], wanted)
 
 
 if __name__ == "__main__":
